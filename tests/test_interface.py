@@ -1,0 +1,97 @@
+"""The names, arguments and places of the interface, and the form of the package's files."""
+
+import ast
+import inspect
+import os
+import unittest
+
+import unknowncorners
+from unknowncorners import programs, settings
+
+FOLDER = os.path.dirname(os.path.abspath(unknowncorners.__file__))
+
+INTERFACE = {
+    programs: {
+        "is_frame": ["value"],
+        "is_program": ["frame", "value"],
+        "count_statements": ["frame", "program"],
+        "fills": ["frame", "program"],
+        "reach": ["frame", "program"],
+        "corners_of": ["frame", "program"],
+    },
+    settings: {
+        "is_setting": ["frame", "value"],
+        "is_facts": ["frame", "value"],
+        "plain": ["frame", "setting"],
+        "closed": ["frame", "setting", "widths"],
+        "close_settings": ["frame", "widths"],
+        "keeps": ["frame", "facts", "setting"],
+        "possible": ["frame", "facts"],
+        "least_setting": ["frame", "facts"],
+        "ring": ["frame", "facts"],
+    },
+}
+
+
+def source_files():
+    return sorted(name for name in os.listdir(FOLDER) if name != "__pycache__")
+
+
+def source_of(name):
+    with open(os.path.join(FOLDER, name), encoding="ascii") as file:
+        return file.read()
+
+
+class InterfaceTest(unittest.TestCase):
+    def test_functions_are_defined_in_their_files(self):
+        for module, functions in INTERFACE.items():
+            for name, parameters in functions.items():
+                with self.subTest(name):
+                    function = getattr(module, name)
+                    self.assertEqual(function.__module__, module.__name__)
+                    self.assertEqual(function.__name__, name)
+                    told = inspect.signature(function).parameters.values()
+                    self.assertEqual([each.name for each in told], parameters)
+                    for each in told:
+                        self.assertEqual(each.kind, each.POSITIONAL_OR_KEYWORD)
+                        self.assertIs(each.default, each.empty)
+
+
+class FormTest(unittest.TestCase):
+    def test_the_folder_holds_python_files_alone(self):
+        for name in source_files():
+            self.assertRegex(name, r"\A[a-z_]+\.py\Z")
+
+    def test_lines_and_files_are_short(self):
+        for name in source_files():
+            lines = source_of(name).split("\n")
+            self.assertLessEqual(len(lines), 400, name)
+            for line in lines:
+                self.assertLessEqual(len(line), 120, name)
+                self.assertEqual(line, line.rstrip(), name)
+                self.assertNotIn("\t", line, name)
+
+    def test_functions_are_short_and_plain(self):
+        for name in source_files():
+            for node in ast.walk(ast.parse(source_of(name))):
+                if isinstance(node, ast.FunctionDef):
+                    self.assertLessEqual(node.end_lineno - node.lineno + 1, 40, node.name)
+
+    def test_imports_are_from_the_package_alone(self):
+        for name in source_files():
+            for node in ast.walk(ast.parse(source_of(name))):
+                self.assertNotIsInstance(node, ast.Import, name)
+                if isinstance(node, ast.ImportFrom):
+                    self.assertEqual(node.level, 0, name)
+                    self.assertRegex(node.module, r"\Aunknowncorners\.[a-z]+\Z", name)
+
+    def test_no_floats_and_no_division(self):
+        for name in source_files():
+            for node in ast.walk(ast.parse(source_of(name))):
+                self.assertNotIsInstance(node, ast.Div, name)
+                if isinstance(node, ast.Constant):
+                    self.assertNotIsInstance(node.value, (float, complex), name)
+
+
+if __name__ == "__main__":
+    unittest.main()

@@ -1,0 +1,1 @@
+"""Paintings whose corners are unknown numbers."""
