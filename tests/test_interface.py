@@ -6,7 +6,7 @@ import os
 import unittest
 
 import unknowncorners
-from unknowncorners import programs, settings
+from unknowncorners import alike, painting, programs, seen, settings
 
 FOLDER = os.path.dirname(os.path.abspath(unknowncorners.__file__))
 
@@ -30,7 +30,32 @@ INTERFACE = {
         "least_setting": ["frame", "facts"],
         "ring": ["frame", "facts"],
     },
+    painting: {
+        "colour_at": ["frame", "program", "setting", "cell"],
+        "picture": ["frame", "program", "setting"],
+        "area": ["frame", "program", "setting", "colour"],
+        "repaint": ["frame", "program", "setting", "later"],
+        "look": ["frame", "program", "setting"],
+    },
+    alike: {
+        "alike": ["frame", "one", "other", "facts"],
+        "parting": ["frame", "one", "other", "facts"],
+        "under": ["frame", "one", "other"],
+        "least_facts": ["frame", "one", "other", "wishes"],
+    },
+    seen: {
+        "seen": ["frame", "program"],
+        "seen_at": ["frame", "program", "index"],
+        "neighbours": ["frame", "program"],
+        "looks": ["frame", "program"],
+        "idle": ["frame", "program"],
+        "exchangeable": ["frame", "program"],
+        "needless": ["frame", "program"],
+        "least_parts": ["frame", "program"],
+    },
 }
+# The only parameters with a default value.
+DEFAULTS = {("alike", "facts"): (), ("parting", "facts"): ()}
 
 
 def source_files():
@@ -54,7 +79,7 @@ class InterfaceTest(unittest.TestCase):
                     self.assertEqual([each.name for each in told], parameters)
                     for each in told:
                         self.assertEqual(each.kind, each.POSITIONAL_OR_KEYWORD)
-                        self.assertIs(each.default, each.empty)
+                        self.assertEqual(each.default, DEFAULTS.get((name, each.name), each.empty))
 
 
 class FormTest(unittest.TestCase):

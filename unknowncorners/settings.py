@@ -88,14 +88,21 @@ def closed(frame, setting, widths):
     return closed_row(across, wide), closed_row(down, high)
 
 
+def values_behind(row, many, most):
+    """List the values up to the most one that can follow on a row, if so many are to be plain."""
+    if len(row) == many - 1 and 0 not in row:
+        return [0]
+    return list(range(most + 1))
+
+
 def close_rows(many, width):
     """List ascending the plain and close lists of so many values."""
     rows = [[]]
     most = (many - 1) * (width + 1)
     for _ in range(many):
-        rows = [[*row, value] for row in rows for value in range(most + 1)]
-    # Closing leaves alone exactly what is plain and close; the test for a 0 only saves time.
-    return [row for row in rows if 0 in row and closed_row(row, width) == row]
+        rows = [[*row, value] for row in rows for value in values_behind(row, many, most)]
+    # Closing leaves alone exactly what is plain and close.
+    return [row for row in rows if closed_row(row, width) == row]
 
 
 def close_settings(frame, widths):
@@ -107,10 +114,9 @@ def close_settings(frame, widths):
     return [(list(row), list(column)) for row in across for column in down]
 
 
-def keeps_fact(fact, setting):
-    """Tell whether a setting keeps one fact."""
-    axis, first, second, least = fact
-    values = on_axis(setting, axis)
+def keeps_fact(fact, values):
+    """Tell whether the values of its axis keep one fact."""
+    _, first, second, least = fact
     return values[first] - values[second] >= least
 
 
@@ -118,7 +124,7 @@ def keeps(frame, facts, setting):
     """Tell whether a setting keeps all facts."""
     need_facts(frame, facts)
     need_setting(frame, setting)
-    return all([keeps_fact(fact, setting) for fact in facts])
+    return all([keeps_fact(fact, on_axis(setting, fact[0])) for fact in facts])
 
 
 def follows(fact, before):
