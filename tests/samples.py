@@ -4,11 +4,24 @@ import copy
 import itertools
 import random
 
+from unknowncorners.console import Console
+from unknowncorners.easels import CarefulCountingEasel, CarefulEasel, CountingEasel, Easel
 from unknowncorners.errors import InvalidFrame, InvalidText, PaintError
+from unknowncorners.paintings import Painting
 from unknowncorners.programs import reach
 
 FRAMES = [(across, down) for across in (1, 2, 3) for down in (1, 2, 3)]
 HUGE = 10 ** 31 - 1
+
+
+def objects():
+    """Objects of the package."""
+    painted = Painting((1, 1), ("fill", box_of(0, 1, 0, 1), 1))
+    return [
+        Painting((1, 1)), painted, Easel((1, 1), ()), Easel((1, 1), painted.program).trying(),
+        CountingEasel((1, 1), ()), CarefulEasel((1, 1), (), []), CarefulCountingEasel((1, 1), (), []),
+        Console((1, 1)),
+    ]
 
 
 def odd_values():
@@ -20,8 +33,8 @@ def odd_values():
         None, True, False, 0, 1, -1, HUGE, -HUGE, "", "x", "fill", "(1, 1)", "11",
         [0], (0,), [None], (None,), [[]], ([],), [()], ["x"], ("x",), deep, ([], [], []),
         PaintError("x"), InvalidFrame("x"), InvalidText(3), [InvalidText(3)], (PaintError("x"),),
-        list(range(20000)), tuple(range(20000)),
-    ]
+        list(range(20000)), tuple(range(20000)), [Painting((1, 1))], (Painting((1, 1)),) * 2,
+    ] + objects()
 
 
 def wrong_frames():

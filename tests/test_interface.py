@@ -6,7 +6,7 @@ import os
 import unittest
 
 import unknowncorners
-from unknowncorners import alike, painting, programs, seen, settings
+from unknowncorners import alike, console, easels, painting, paintings, programs, seen, settings, texts
 
 FOLDER = os.path.dirname(os.path.abspath(unknowncorners.__file__))
 
@@ -53,9 +53,36 @@ INTERFACE = {
         "needless": ["frame", "program"],
         "least_parts": ["frame", "program"],
     },
+    texts: {
+        "write_program": ["frame", "program"],
+        "read_program": ["frame", "text"],
+        "write_setting": ["frame", "setting"],
+        "read_setting": ["frame", "text"],
+    },
+}
+# Each class with the methods and properties that stand in its own body, and what they take behind self.
+CLASSES = {
+    paintings.Painting: (paintings, {
+        "__init__": ["frame", "*statements"], "__len__": [], "__getitem__": 1, "__setitem__": 2,
+        "__contains__": 1, "__call__": ["setting", "cell"], "__add__": 1, "__radd__": 1, "__iadd__": 1,
+        "__eq__": 1, "__ne__": 1, "__le__": 1, "__lt__": 1, "__bool__": [], "moved": ["across", "down"],
+        "clipped": ["box"], "steps": ["setting"], "of_boxes": ["frame", "*boxes", "colour"],
+    }, ["frame", "program"]),
+    easels.Easel: (easels, {
+        "__init__": ["frame", "program"], "put": ["statement"], "take": ["index"],
+        "shift": ["axis", "number", "by"], "undo": [], "twin": [], "trying": [], "tried": ["shifts"],
+    }, ["frame", "program", "setting", "picture", "deeds"]),
+    easels.CountingEasel: (easels, {"__init__": ["frame", "program"], "twin": []}, ["cells"]),
+    easels.CarefulEasel: (easels, {
+        "__init__": ["frame", "program", "facts"], "shift": ["axis", "number", "by"],
+        "tried": ["shifts"], "twin": [],
+    }, ["facts"]),
+    easels.CarefulCountingEasel: (easels, {"__init__": ["frame", "program", "facts"], "twin": []}, []),
+    console.Console: (console, {"__init__": ["frame"], "execute": ["command"]}, []),
 }
 # The only parameters with a default value.
 DEFAULTS = {("alike", "facts"): (), ("parting", "facts"): ()}
+METHOD_DEFAULTS = {("moved", "across"): 0, ("moved", "down"): 0, ("of_boxes", "colour"): 1}
 
 
 def source_files():
@@ -80,6 +107,40 @@ class InterfaceTest(unittest.TestCase):
                     for each in told:
                         self.assertEqual(each.kind, each.POSITIONAL_OR_KEYWORD)
                         self.assertEqual(each.default, DEFAULTS.get((name, each.name), each.empty))
+
+
+class ClassesTest(unittest.TestCase):
+    def test_classes_are_defined_in_their_files(self):
+        for kind, (module, methods, properties) in CLASSES.items():
+            self.assertEqual(kind.__module__, module.__name__)
+            self.assertIs(getattr(module, kind.__name__), kind)
+
+    def test_methods_are_defined_in_their_classes(self):
+        for kind, (module, methods, properties) in CLASSES.items():
+            for name, due in methods.items():
+                with self.subTest(f"{kind.__name__}.{name}"):
+                    found = vars(kind)[name]
+                    told = list(inspect.signature(getattr(found, "__func__", found)).parameters.values())[1:]
+                    if type(due) is int:
+                        self.assertEqual(len(told), due)
+                        continue
+                    names = [("*" if each.kind == each.VAR_POSITIONAL else "") + each.name for each in told]
+                    self.assertEqual(names, due)
+                    for each in told:
+                        self.assertEqual(each.default, METHOD_DEFAULTS.get((name, each.name), each.empty))
+
+    def test_properties_are_defined_in_their_classes(self):
+        for kind, (module, methods, properties) in CLASSES.items():
+            for name in properties:
+                self.assertIs(type(vars(kind)[name]), property, name)
+
+    def test_of_boxes_is_a_class_method(self):
+        self.assertIs(type(vars(paintings.Painting)["of_boxes"]), classmethod)
+
+    def test_blocks_have_their_methods(self):
+        block = easels.Easel((1, 1), ()).trying()
+        for name in ("begin", "finish", "__enter__", "__exit__"):
+            self.assertIn(name, vars(type(block)))
 
 
 class FormTest(unittest.TestCase):

@@ -1,6 +1,6 @@
 """Frames and programs: which values are such, and what stands in a program."""
 
-from unknowncorners.errors import InvalidFrame, InvalidProgram
+from unknowncorners.errors import InvalidFrame, InvalidIndex, InvalidProgram, InvalidStatement
 
 MOST_UNKNOWNS = 3
 MOST_AMOUNT = 9
@@ -96,6 +96,18 @@ def need_program(frame, program):
     """Raise InvalidFrame or InvalidProgram unless the value is a program of a frame."""
     if not is_program(frame, program):
         raise InvalidProgram("a program is a tuple of statements of the frame")
+
+
+def need_statement(frame, statement):
+    """Raise InvalidStatement unless the value is a statement of the frame."""
+    if not is_statement(frame, statement):
+        raise InvalidStatement("this is no statement of the frame")
+
+
+def need_index(index, many):
+    """Raise InvalidIndex unless the value is an index of so many things."""
+    if not is_within(index, 0, many - 1):
+        raise InvalidIndex("an index is an integer from 0 on, less than the number of what is numbered")
 
 
 def programs_inside(statement):

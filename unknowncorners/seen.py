@@ -1,9 +1,8 @@
 """What of a program is ever seen, over all settings, and which of its statements matter."""
 
 from unknowncorners.alike import index_lists, least_of
-from unknowncorners.errors import InvalidIndex
 from unknowncorners.painting import differs, painted
-from unknowncorners.programs import MOST_COLOUR, fills_in, is_within, need_program
+from unknowncorners.programs import MOST_COLOUR, fills_in, need_index, need_program
 from unknowncorners.strokes import (
     colours_of, first_strokes, lays_of, least_place, stacks_of, stacks_on, strokes_of, top_colour,
     top_stroke, widths_of)
@@ -30,8 +29,7 @@ def seen(frame, program):
 def seen_at(frame, program, index):
     """Find the least setting, and the least cell there, at which a fill is seen."""
     need_program(frame, program)
-    if not is_within(index, 0, len(fills_in(program)) - 1):
-        raise InvalidIndex("an index is the number of a fill")
+    need_index(index, len(fills_in(program)))
     across, down = lays_in(frame, program)
     wanted = {stack: True for stack in stacks_of(across, down) if top_stroke(stack) == index}
     return least_place(across, down, wanted)

@@ -120,11 +120,16 @@ def keeps_fact(fact, values):
     return values[first] - values[second] >= least
 
 
+def keeps_all(facts, setting):
+    """Tell whether what is known to be a setting keeps all facts."""
+    return all([keeps_fact(fact, on_axis(setting, fact[0])) for fact in facts])
+
+
 def keeps(frame, facts, setting):
     """Tell whether a setting keeps all facts."""
     need_facts(frame, facts)
     need_setting(frame, setting)
-    return all([keeps_fact(fact, on_axis(setting, fact[0])) for fact in facts])
+    return keeps_all(facts, setting)
 
 
 def follows(fact, before):
