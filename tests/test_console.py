@@ -212,8 +212,8 @@ class CommandsTest(ConsoleTestCase):
                 ("try x 1 4 area 2", "14"), ("try x 1 4 setting", "0 5 0"), ("setting", "0 1 0"),
                 ("try - take 1", BLUE_TEXT), ("try - try y 0 -3 at 0 -4", "2"), ("at 0 -4", "0"),
                 ("alike " + BLUE_TEXT, "no"), ("try - alike " + DOT_TEXT + " " + BLUE_TEXT, "yes"),
-                ("take 0", DOT_TEXT), ("alike " + BLUE_TEXT, "yes"), ("undo", "ok"), ("program", DOT_TEXT + " " + BLUE_TEXT),
-                ("undo", "ok"), ("setting", "0 0 0"), ("undo", "ok"), ("program", DOT_TEXT), ("undo", "ok"),
+                ("take 0", DOT_TEXT), ("alike " + BLUE_TEXT, "yes"), ("undo", "ok"),
+                ("program", DOT_TEXT + " " + BLUE_TEXT), ("undo", "ok"), ("setting", "0 0 0"), ("undo", "ok"), ("program", DOT_TEXT), ("undo", "ok"),
                 ("program", "-")):
             self.assertEqual(console.execute(command), due, command)
         self.expect_error(NothingToUndo, console, "undo")
@@ -350,10 +350,13 @@ class InvalidCommandTest(ConsoleTestCase):
                 "try x 0 1", "try x 0 1 ", "try x 0 undo", "try x 0 1  undo", "try  0 1 undo", "try - - undo",
                 "try - 0 1 undo", "try - put", "try - alike", "try - nothing", "try x 0 1 try", "try x 0 1 try -",
                 "try x 0 1 undo ", "try x a 1 undo", "try x 0 b undo", "try x 00 1 undo", "try x 0 +1 undo",
-                "try x 0 -0 undo", "try x 0 1234567890 undo", "try x 0 1 area", "try x 0 1 area 1 2", "try x 0 1 area x",
+                "try x 0 -0 undo", "try x 0 1234567890 undo", "try x 0 1 area", "try x 0 1 area 1 2",
+                "try x 0 1 area x",
                 "undo ", " undo", "undo 1", "Undo", "UNDO", "undo\n", "undos", "und", "redo", "setting ", "setting x",
-                "program ", " program", "program 0", "seen ", "seen 0", "take", "take ", "take x", "take 0 0", "take 00",
-                "take -0", "take +0", "take  0", "take 0 ", "take 1234567890", "take -1234567890", "take 0.0", "take 0\n",
+                "program ", " program", "program 0", "seen ", "seen 0", "take", "take ", "take x", "take 0 0",
+                "take 00",
+                "take -0", "take +0", "take  0", "take 0 ", "take 1234567890", "take -1234567890", "take 0.0",
+                "take 0\n",
                 "shift", "shift x", "shift x 0", "shift x 0 ", "shift x 0 x", "shift x 0 1 1", "shift  0 1",
                 "shift x  1", "shift x 0 01", "shift x 01 1", "shift x 0 +1", "shift x 0 -0", "shift x y 1",
                 "shift x 0 1234567890", "at", "at 0", "at 0 ", "at 0 x", "at 0 0 0", "at 00 0", "at 0 -0", "at  0 0",
@@ -405,7 +408,8 @@ class ErrorsTest(ConsoleTestCase):
                                 "shift x 0 999999999", "shift 0 0 0", "try x 0 51 undo", "try q 0 1 undo",
                                 "try try 0 1 undo", "try -- 0 1 undo", "try x 2 0 setting", "try - shift x 0 51",
                                 "try x 0 1 try x 0 -51 setting", "try undo 0 1 undo")),
-                (InvalidColour, ("area 0", "area 10", "area -1", "area 999999999", "try - area 0", "try x 0 1 area 10")),
+                (InvalidColour, ("area 0", "area 10", "area -1", "area 999999999", "try - area 0",
+                                 "try x 0 1 area 10")),
                 (NothingToUndo, ("try - undo", "try x 0 1 try - undo"))):
             for command in commands:
                 self.assertIsNotNone(COMMAND.fullmatch(command), command)
@@ -467,8 +471,8 @@ class ErrorsTest(ConsoleTestCase):
     def test_an_error_changes_nothing_and_is_no_deed(self):
         console = Console(FRAME)
         console.execute("put " + DOT_TEXT)
-        for command in ("shift x 0 51", "take 7", "put x", "try x 0 1 take 7", "try x 0 1 put x", "area 0", "try - undo",
-                        "nothing", "alike x"):
+        for command in ("shift x 0 51", "take 7", "put x", "try x 0 1 take 7", "try x 0 1 put x", "area 0",
+                        "try - undo", "nothing", "alike x"):
             with self.assertRaises(PaintError):
                 console.execute(command)
         self.assertEqual(console.execute("undo"), "ok")

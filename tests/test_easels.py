@@ -463,7 +463,8 @@ class DeedsTest(EaselTestCase):
 
     def wrong_shifts(self):
         good = {"axis": "x", "number": 1, "by": 3}
-        axes = [value for value in odd_values() if value != "x"] + ["z", "X", "Y", "xy", "", ("x",), ["x"], InvalidText(1), "x "]
+        axes = [value for value in odd_values() if value != "x"]
+        axes += ["z", "X", "Y", "xy", "", ("x",), ["x"], InvalidText(1), "x "]
         wrongs = [value for value in odd_values() if type(value) is not int]
         numbers = wrongs + unlike_integers(0) + unlike_integers(1) + [-1, 2, 3, HUGE, -HUGE, "1"]
         ways = wrongs + unlike_integers(0) + unlike_integers(3) + [51, -51, 52, HUGE, -HUGE, "3", [3]]

@@ -387,6 +387,20 @@ class ComparingTest(PaintingTestCase):
         self.assertTrue(great >= small and great > small)
         self.assertFalse(small >= great or small > great or small > small)
 
+    def test_what_is_no_operand(self):
+        painting = Painting(FRAME, DOT)
+
+        def in_place(value):
+            changed = painting
+            changed += value
+
+        for value in (None, 1, "x", [DOT], [], InvalidText(1)):
+            for act in (lambda one: painting + one, lambda one: one + painting, in_place,
+                        lambda one: painting <= one, lambda one: painting < one, lambda one: painting >= one):
+                with self.assertRaises(TypeError):
+                    act(value)
+        self.expect_kept(painting, FRAME, (DOT,))
+
     def test_changes_count_at_once(self):
         one, other = Painting(FRAME, DOT), Painting(FRAME, BLUE)
         self.assertFalse(one == other)

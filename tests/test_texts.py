@@ -127,10 +127,10 @@ def changed_words(chance, words):
 
 class TextTestCase(unittest.TestCase):
     def expect_place(self, place, reader, frame, text):
-        with self.assertRaises(InvalidText, msg=text) as caught:
+        with self.assertRaises(InvalidText, msg=repr(text)[:200]) as caught:
             reader(frame, text)
         self.assertIs(type(caught.exception), InvalidText)
-        self.assertEqual(caught.exception.place, place, (frame, text))
+        self.assertEqual(caught.exception.place, place, repr(text)[:200])
         self.assertIs(type(caught.exception.place), int)
 
     def expect_read(self, frame, text):
@@ -292,6 +292,12 @@ class ReadProgramTest(TextTestCase):
                 words = text.split(" ")
                 words[place] = str(int(words[place][0]) + 1) + words[place][1:]
                 self.expect_place(place, read_program, (across, down), " ".join(words))
+
+    def test_what_is_no_string(self):
+        for wrong in odd_values() + [MIXED, (DOT,), ["fill"], 0, None, ["1", "2", "3"], ([1, 2], [3])]:
+            if type(wrong) is not str:
+                self.expect_place(0, read_program, FRAME, wrong)
+                self.expect_place(0, read_setting, FRAME, wrong)
 
     def test_wrong_frames(self):
         for wrong in wrong_frames():

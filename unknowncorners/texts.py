@@ -131,8 +131,7 @@ def words_in(text):
 
 
 def read_statement(frame, text):
-    """Read the text of one statement."""
-    need_frame(frame)
+    """Read the text of one statement, for what is known to be a frame."""
     reader = Reader(frame, words_in(text))
     statement = reader.statement(1)
     reader.end()
